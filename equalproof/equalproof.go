@@ -4,6 +4,8 @@ package equalproof
 import (
 	"equalproof/api"
 	"equalproof/equality"
+	"equalproof/lits"
+	"equalproof/steps"
 	"equalproof/valid"
 )
 
@@ -30,10 +32,28 @@ func True(p api.Problem, classes []int) (bool, api.Errno) {
 }
 
 // Clause tells the clause of the last step (P5).
-func Clause(p api.Problem, steps []api.Step) ([]api.Lit, int, api.Errno) { return nil, 0, api.OK }
+func Clause(p api.Problem, steps []api.Step) ([]api.Lit, int, api.Errno) {
+	last, right, e := follow(p, steps)
+	if e != api.OK {
+		return nil, right, e
+	}
+	if right == 0 {
+		return nil, 0, api.ErrOpen
+	}
+	return last.InOrder(), right - 1, api.OK
+}
 
 // Check checks steps (P6).
-func Check(p api.Problem, steps []api.Step) (int, api.Errno) { return 0, api.OK }
+func Check(p api.Problem, steps []api.Step) (int, api.Errno) {
+	last, right, e := follow(p, steps)
+	if e != api.OK {
+		return right, e
+	}
+	if right == 0 || !last.IsEmpty() {
+		return right, api.ErrOpen
+	}
+	return right, api.OK
+}
 
 // Solve solves a problem (P7).
 func Solve(p api.Problem) (api.Answer, api.Errno) { return api.Answer{}, api.OK }
@@ -47,4 +67,17 @@ func refuse(p api.Problem) api.Errno {
 		return api.ErrClause
 	}
 	return api.OK
+}
+
+// follow tells the clause of the last step and how many are right. With ErrStep
+// that is the number of the first that is not.
+func follow(p api.Problem, list []api.Step) (lits.Set, int, api.Errno) {
+	if e := refuse(p); e != api.OK {
+		return lits.Set{}, 0, e
+	}
+	last, right := steps.Follow(p, list)
+	if right < len(list) {
+		return lits.Set{}, right, api.ErrStep
+	}
+	return last, right, api.OK
 }

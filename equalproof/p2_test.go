@@ -112,6 +112,50 @@ func TestTrueLeavesWhatItIsHanded(t *testing.T) {
 	}
 }
 
+func TestStepsLeaveWhatTheyAreHanded(t *testing.T) {
+	r := rand.New(rand.NewPCG(2, 3))
+	for range 300 {
+		count := 1 + r.IntN(api.MaxTerms)
+		p := api.Problem{Terms: roomyTerms(someTerms(r, count)), Clauses: roomyClauses(someClauses(r, count))}
+		steps := withRoom(given(22), someSteps(r, p, r.IntN(20))...)
+		tell := func() string { return tellTerms(p.Terms) + tellClauses(p.Clauses) + fmt.Sprint(whole(steps)) }
+		before := tell()
+		n, e := equalproof.Check(p, steps)
+		lits, m, f := equalproof.Clause(p, steps)
+		told := fmt.Sprint(n, e, lits, m, f)
+		if tell() != before {
+			t.Fatalf("P2: Check or Clause writes into what it was handed: %s", before)
+		}
+		for i := range whole(lits) {
+			whole(lits)[i] = not(-7, -7)
+		}
+		lits = append(lits, is(-8, -8), is(-8, -8), is(-8, -8))
+		if tell() != before {
+			t.Fatalf("P2: Clause answers memory of what it was handed: %s", before)
+		}
+		n, e = equalproof.Check(p, steps)
+		lits, m, f = equalproof.Clause(p, steps)
+		if fmt.Sprint(n, e, lits, m, f) != told {
+			t.Fatalf("P2: Check and Clause of %s: %v, and ahead of that %s", before, fmt.Sprint(n, e, lits, m, f), told)
+		}
+	}
+}
+
+func TestClauseKeepsNothing(t *testing.T) {
+	p, steps := seven(), []api.Step{given(4)}
+	first, _, _ := equalproof.Clause(p, steps)
+	want := toldLits(first)
+	p.Clauses[4][0], p.Terms[2].Args[0], steps[0] = is(1, 1), 1, refl(0)
+	second, _, _ := equalproof.Clause(seven(), []api.Step{given(4)})
+	third, _, _ := equalproof.Clause(seven(), []api.Step{given(0)})
+	for i := range whole(second) {
+		whole(second)[i] = not(-7, -7)
+	}
+	if toldLits(first) != want || toldLits(third) != "0 = 1" {
+		t.Errorf("P2: an answer of Clause is changed by what stands elsewhere: %s; %s", toldLits(first), toldLits(third))
+	}
+}
+
 // What a call is refused with hangs on its arguments alone, too.
 func TestErrorsLeaveNothingBehind(t *testing.T) {
 	for range 2 {
@@ -121,6 +165,9 @@ func TestErrorsLeaveNothingBehind(t *testing.T) {
 		for _, pairs := range noPairs() {
 			wantClose(t, four(), pairs, api.ErrPair)
 		}
+		wantWrong(t, seven(), 1, given(3), refl(7))
+		wantCheck(t, seven(), list(given(3)), 1, api.OK)
+		wantTold(t, seven(), "0 = 1", given(0))
 		if c, e := equalproof.Close(four(), []api.Pair{{A: 0, B: 1}}); fmt.Sprint(c) != "[0 0 1 1]" || e != api.OK {
 			t.Errorf("P2: Close after errors: %v, %d", c, e)
 		}
@@ -137,6 +184,12 @@ func TestCallsBesideEachOther(t *testing.T) {
 				}
 				if b, _ := equalproof.True(api.Problem{Terms: four(), Clauses: [][]api.Lit{{is(2, 3)}}}, []int{0, 1, 2, 2}); !b {
 					t.Errorf("P2: True beside others: %v", b)
+				}
+				if l, _, _ := equalproof.Clause(seven(), []api.Step{given(0), cong(2, 3), cut(0, 1, 0, 1)}); toldLits(l) != "2 = 3" {
+					t.Errorf("P2: Clause beside others: %v", l)
+				}
+				if n, e := equalproof.Check(seven(), []api.Step{given(1), given(3)}); n != 2 || e != api.OK {
+					t.Errorf("P2: Check beside others: %d, %d", n, e)
 				}
 			}
 		})

@@ -24,7 +24,7 @@ func Pairs(pairs []api.Pair, count int) bool {
 		return false
 	}
 	for _, pair := range pairs {
-		if !isBelow(pair.A, count) || !isBelow(pair.B, count) {
+		if !Below(pair.A, count) || !Below(pair.B, count) {
 			return false
 		}
 	}
@@ -52,7 +52,7 @@ func Classes(classes []int, count int) bool {
 	// All numbers below next stand ahead, since none is ever passed over.
 	next := 0
 	for _, class := range classes {
-		if !isBelow(class, next+1) {
+		if !Below(class, next+1) {
 			return false
 		}
 		if class == next {
@@ -62,12 +62,17 @@ func Classes(classes []int, count int) bool {
 	return true
 }
 
+// Below tells whether this is the number of one of so many, from 0 on.
+func Below(number, end int) bool {
+	return number >= 0 && number < end
+}
+
 func isTerm(term api.Term, number int) bool {
-	if !isBelow(term.Symbol, api.MaxSymbol+1) || len(term.Args) > api.MaxArgs {
+	if !Below(term.Symbol, api.MaxSymbol+1) || len(term.Args) > api.MaxArgs {
 		return false
 	}
 	for _, arg := range term.Args {
-		if !isBelow(arg, number) {
+		if !Below(arg, number) {
 			return false
 		}
 	}
@@ -79,13 +84,9 @@ func isClause(clause []api.Lit, count int) bool {
 		return false
 	}
 	for _, lit := range clause {
-		if !isBelow(lit.A, count) || !isBelow(lit.B, count) {
+		if !Below(lit.A, count) || !Below(lit.B, count) {
 			return false
 		}
 	}
 	return true
-}
-
-func isBelow(number, end int) bool {
-	return number >= 0 && number < end
 }

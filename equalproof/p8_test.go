@@ -1,0 +1,60 @@
+package equalproof_test
+
+import (
+	"math/rand/v2"
+	"slices"
+	"testing"
+
+	"equalproof/api"
+	"equalproof/equalproof"
+)
+
+// waysToHold: all classes that are sound and with which a problem holds.
+func waysToHold(t *testing.T, p api.Problem) [][]int {
+	t.Helper()
+	var ways [][]int
+	eachClasses(len(p.Terms), func(classes []int) {
+		if soundByNames(p.Terms, classes) && !slices.ContainsFunc(p.Clauses, func(clause []api.Lit) bool { return !holdsWith(clause, classes) }) {
+			ways = append(ways, classes)
+		}
+	})
+	return ways
+}
+
+func holdsWith(clause []api.Lit, classes []int) bool {
+	return slices.ContainsFunc(clause, func(lit api.Lit) bool {
+		return lit.Not != (classes[lit.A] == classes[lit.B])
+	})
+}
+
+// What right steps tell holds with all classes with which the problem does.
+func TestRightStepsTellWhatHolds(t *testing.T) {
+	r := rand.New(rand.NewPCG(8, 1))
+	shown := 0
+	for range 1500 {
+		count := 1 + r.IntN(5)
+		p := api.Problem{Terms: someTerms(r, count), Clauses: someClauses(r, count)}
+		ways := waysToHold(t, p)
+		steps := someSteps(r, p, 40)
+		for n := range steps {
+			lits, _, e := equalproof.Clause(p, steps[:n+1])
+			if e != api.OK {
+				break
+			}
+			for _, classes := range ways {
+				if !holdsWith(lits, classes) {
+					t.Fatalf("P8: %v hold with %v, but %s, told by %v, does not", p, classes, toldLits(lits), steps[:n+1])
+				}
+			}
+			if _, e := equalproof.Check(p, steps[:n+1]); e == api.OK {
+				shown++
+				if len(ways) > 0 {
+					t.Fatalf("P8: Check of %v is OK, but %v holds with %v", steps[:n+1], p, ways[0])
+				}
+			}
+		}
+	}
+	if shown == 0 {
+		t.Errorf("no steps ended with the empty clause: too few to tell much")
+	}
+}
