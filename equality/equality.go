@@ -7,19 +7,17 @@ import "equalproof/api"
 // Close tells the sound classes in which all pairs hold, and in which no two
 // terms are equal that need not be.
 func Close(terms []api.Term, pairs []api.Pair) []int {
-	marks := allApart(len(terms))
-	for _, pair := range pairs {
-		join(marks, pair.A, pair.B)
-	}
-	// Two terms that are joined may make others equal, ones that have been
-	// passed too: so the search starts anew after each. It ends, since each
-	// time there is one mark fewer.
-	a, b, found := findForced(terms, marks)
-	for found {
-		join(marks, a, b)
-		a, b, found = findForced(terms, marks)
-	}
+	marks, _ := joinAll(terms, pairs)
 	return toClasses(marks)
+}
+
+// Links tells the pairs that Close joins, in their order: each is one of pairs,
+// or of terms that are alike and whose args are equal by the links ahead. No
+// link joins what those ahead have joined: so between two terms that are equal
+// there is one way of links, and no other.
+func Links(terms []api.Term, pairs []api.Pair) []api.Pair {
+	_, links := joinAll(terms, pairs)
+	return links
 }
 
 // Sound tells whether the classes are sound.
@@ -41,6 +39,27 @@ func AllHold(clauses [][]api.Lit, classes []int) bool {
 // Alike tells whether two terms have the same symbol and as many args.
 func Alike(a, b api.Term) bool {
 	return a.Symbol == b.Symbol && len(a.Args) == len(b.Args)
+}
+
+func joinAll(terms []api.Term, pairs []api.Pair) ([]int, []api.Pair) {
+	marks := allApart(len(terms))
+	var links []api.Pair
+	for _, pair := range pairs {
+		if marks[pair.A] != marks[pair.B] {
+			join(marks, pair.A, pair.B)
+			links = append(links, pair)
+		}
+	}
+	// Two terms that are joined may make others equal, ones that have been
+	// passed too: so the search starts anew after each. It ends, since each
+	// time there is one mark fewer.
+	a, b, found := findForced(terms, marks)
+	for found {
+		join(marks, a, b)
+		links = append(links, api.Pair{A: a, B: b})
+		a, b, found = findForced(terms, marks)
+	}
+	return marks, links
 }
 
 func holds(clause []api.Lit, classes []int) bool {

@@ -5,6 +5,7 @@ import (
 	"equalproof/api"
 	"equalproof/equality"
 	"equalproof/lits"
+	"equalproof/search"
 	"equalproof/steps"
 	"equalproof/valid"
 )
@@ -56,7 +57,12 @@ func Check(p api.Problem, steps []api.Step) (int, api.Errno) {
 }
 
 // Solve solves a problem (P7).
-func Solve(p api.Problem) (api.Answer, api.Errno) { return api.Answer{}, api.OK }
+func Solve(p api.Problem) (api.Answer, api.Errno) {
+	if e := refuse(p); e != api.OK {
+		return api.Answer{}, e
+	}
+	return search.Solve(p), api.OK
+}
 
 // refuse tells what is wrong with a problem, or OK.
 func refuse(p api.Problem) api.Errno {

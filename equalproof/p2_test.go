@@ -156,6 +156,66 @@ func TestClauseKeepsNothing(t *testing.T) {
 	}
 }
 
+// tellAnswer tells what an answer says.
+func tellAnswer(answer api.Answer, e api.Errno) string {
+	return fmt.Sprint(answer.Holds, len(answer.Classes), answer.Classes, len(answer.Steps), answer.Steps, e)
+}
+
+// spoil writes into all of an answer, spare room too.
+func spoil(answer api.Answer) {
+	for i := range whole(answer.Classes) {
+		whole(answer.Classes)[i] = -7
+	}
+	for i := range whole(answer.Steps) {
+		whole(answer.Steps)[i] = given(-7)
+	}
+}
+
+func TestSolveLeavesWhatItIsHanded(t *testing.T) {
+	r := rand.New(rand.NewPCG(2, 4))
+	for range 600 {
+		count := 1 + r.IntN(api.MaxTerms)
+		plain := api.Problem{Terms: someTerms(r, count), Clauses: manyClauses(r, count)}
+		p := api.Problem{Terms: roomyTerms(plain.Terms), Clauses: roomyClauses(plain.Clauses)}
+		tell := func() string { return tellTerms(p.Terms) + tellClauses(p.Clauses) }
+		before := tell()
+		answer, e := equalproof.Solve(p)
+		told := tellAnswer(answer, e)
+		if tell() != before {
+			t.Fatalf("P2: Solve writes into what it was handed: %s", before)
+		}
+		spoil(answer)
+		if tell() != before {
+			t.Fatalf("P2: Solve answers memory of what it was handed: %s", before)
+		}
+		if again := tellAnswer(equalproof.Solve(p)); again != told {
+			t.Fatalf("P2: Solve(%s) = %s, and ahead of that %s", before, again, told)
+		}
+		if without := tellAnswer(equalproof.Solve(plain)); without != told {
+			t.Fatalf("P2: Solve(%s) = %s, but without spare room %s", before, told, without)
+		}
+	}
+}
+
+func TestSolveKeepsNothing(t *testing.T) {
+	holds := func() api.Problem { return api.Problem{Terms: four(), Clauses: [][]api.Lit{{is(0, 1)}}} }
+	p, q := twoWays(), holds()
+	first, e := equalproof.Solve(p)
+	second, f := equalproof.Solve(q)
+	told := tellAnswer(first, e) + tellAnswer(second, f)
+	p.Clauses[0][0], p.Terms[2].Args[0], q.Clauses[0][0], q.Terms[3].Symbol = not(0, 1), 1, not(0, 1), 7
+	third, _ := equalproof.Solve(twoWays())
+	fourth, _ := equalproof.Solve(holds())
+	spoil(third)
+	spoil(fourth)
+	if tellAnswer(first, e)+tellAnswer(second, f) != told {
+		t.Errorf("P2: an answer of Solve is changed by what stands elsewhere: %v %v", first, second)
+	}
+	if again := tellAnswer(equalproof.Solve(twoWays())) + tellAnswer(equalproof.Solve(holds())); again != told {
+		t.Errorf("P2: Solve answers %s, and ahead of that %s", again, told)
+	}
+}
+
 // What a call is refused with hangs on its arguments alone, too.
 func TestErrorsLeaveNothingBehind(t *testing.T) {
 	for range 2 {
@@ -168,6 +228,9 @@ func TestErrorsLeaveNothingBehind(t *testing.T) {
 		wantWrong(t, seven(), 1, given(3), refl(7))
 		wantCheck(t, seven(), list(given(3)), 1, api.OK)
 		wantTold(t, seven(), "0 = 1", given(0))
+		wantRefused(t, api.Problem{Terms: four(), Clauses: noClauses()[0]}, api.ErrClause)
+		wantSolved(t, twoWays(), false)
+		wantSolved(t, api.Problem{Terms: four(), Clauses: twoWays().Clauses[:1]}, true)
 		if c, e := equalproof.Close(four(), []api.Pair{{A: 0, B: 1}}); fmt.Sprint(c) != "[0 0 1 1]" || e != api.OK {
 			t.Errorf("P2: Close after errors: %v, %d", c, e)
 		}
@@ -176,6 +239,7 @@ func TestErrorsLeaveNothingBehind(t *testing.T) {
 
 func TestCallsBesideEachOther(t *testing.T) {
 	var group sync.WaitGroup
+	alone := tellAnswer(equalproof.Solve(holes(4, 3)))
 	for range 8 {
 		group.Go(func() {
 			for range 200 {
@@ -190,6 +254,9 @@ func TestCallsBesideEachOther(t *testing.T) {
 				}
 				if n, e := equalproof.Check(seven(), []api.Step{given(1), given(3)}); n != 2 || e != api.OK {
 					t.Errorf("P2: Check beside others: %d, %d", n, e)
+				}
+				if told := tellAnswer(equalproof.Solve(holes(4, 3))); told != alone {
+					t.Errorf("P2: Solve beside others: %s, alone: %s", told, alone)
 				}
 			}
 		})

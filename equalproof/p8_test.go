@@ -58,3 +58,48 @@ func TestRightStepsTellWhatHolds(t *testing.T) {
 		t.Errorf("no steps ended with the empty clause: too few to tell much")
 	}
 }
+
+// hanging tells which steps hang on a clause of the problem.
+func hanging(steps []api.Step, clause int) []bool {
+	hangs := make([]bool, len(steps))
+	for n, s := range steps {
+		switch s.Rule {
+		case api.Given:
+			hangs[n] = s.A == clause
+		case api.Cut:
+			hangs[n] = hangs[s.A] || hangs[s.B]
+		}
+	}
+	return hangs
+}
+
+// The steps of Solve, too: what they tell without one of the clauses holds with
+// all classes with which the others do.
+func TestStepsOfSolveTellWhatHolds(t *testing.T) {
+	r := rand.New(rand.NewPCG(8, 2))
+	looked := 0
+	for range 1500 {
+		count := 2 + r.IntN(4)
+		p := api.Problem{Terms: someTerms(r, count), Clauses: manyClauses(r, count)}
+		answer, _ := equalproof.Solve(p)
+		clauses := plainFollow(p, answer.Steps)
+		for one := range p.Clauses {
+			others := slices.Delete(slices.Clone(p.Clauses), one, one+1)
+			ways := waysToHold(t, api.Problem{Terms: p.Terms, Clauses: others})
+			for n, hangs := range hanging(answer.Steps, one) {
+				if hangs {
+					continue
+				}
+				looked++
+				for _, classes := range ways {
+					if !holdsWith(clauses[n], classes) {
+						t.Fatalf("P8: %v without clause %d holds with %v, but %s, told by step %d of %v, does not", p, one, classes, clauses[n].told(), n, answer.Steps)
+					}
+				}
+			}
+		}
+	}
+	if looked < 10000 {
+		t.Errorf("%d steps were looked at: too few to tell much", looked)
+	}
+}

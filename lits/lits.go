@@ -3,7 +3,11 @@
 // shares nothing with it, and many steps can be kept in little room.
 package lits
 
-import "equalproof/api"
+import (
+	"math/bits"
+
+	"equalproof/api"
+)
 
 // Set: a bit for each pair of terms that is said to be equal, and one for each
 // that is said not to be. There are 45 pairs of MaxTerms terms.
@@ -18,6 +22,12 @@ func Of(list ...api.Lit) Set {
 		set = set.With(lit)
 	}
 	return set
+}
+
+// Contrary is the literal that holds where this one does not.
+func Contrary(lit api.Lit) api.Lit {
+	lit.Not = !lit.Not
+	return lit
 }
 
 // Has tells whether a literal stands in the set.
@@ -51,6 +61,26 @@ func (set Set) Without(lit api.Lit) Set {
 // Union is what stands in one of two sets, or in both.
 func (set Set) Union(other Set) Set {
 	return Set{equal: set.equal | other.equal, apart: set.apart | other.apart}
+}
+
+// Minus is what stands in the set and not in the other.
+func (set Set) Minus(other Set) Set {
+	return Set{equal: set.equal &^ other.equal, apart: set.apart &^ other.apart}
+}
+
+// Meets tells whether something stands in both sets.
+func (set Set) Meets(other Set) bool {
+	return set.equal&other.equal != 0 || set.apart&other.apart != 0
+}
+
+// Contraries is the set of the contraries of what stands in this one.
+func (set Set) Contraries() Set {
+	return Set{equal: set.apart, apart: set.equal}
+}
+
+// Count tells how many literals stand in the set.
+func (set Set) Count() int {
+	return bits.OnesCount64(set.equal) + bits.OnesCount64(set.apart)
 }
 
 // IsEmpty tells whether nothing stands in the set.
